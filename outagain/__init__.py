@@ -1,0 +1,1 @@
+"""Outagain: drivers who go out again every morning."""

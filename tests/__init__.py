@@ -1,0 +1,1 @@
+"""Tests of the program; see README.md for how to run them."""
