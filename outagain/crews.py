@@ -2,6 +2,7 @@
 
 from outagain.checks import ascending, check_days, check_due
 from outagain.errors import BadCrews, NoBook
+from outagain.judging import weekday_reasons
 from outagain.neighbours import join_neighbours
 from outagain.walking import walk
 
@@ -27,7 +28,7 @@ def crews_fault(depot, days, due, crews):
     check_days(days)
     check_due(depot, due)
     check_crews(depot, days, crews)
-    faults = (weekday_faults(depot, days, due) + back_faults(depot, due, crews)
+    faults = (weekday_reasons(depot, days, due) + back_faults(depot, due, crews)
               + last_faults(depot, days, due, crews))
     return faults[0] if faults else FIT
 
@@ -64,16 +65,6 @@ def check_crews(depot, days, crews):
 def times_in(crews, driver):
     """How many crews have the driver."""
     return sum([times for times, crew in crews if driver in crew])
-
-
-def weekday_faults(depot, days, due):
-    """A fault for each weekday on which not as many drivers are due as its due places."""
-    faults = []
-    for weekday, room in enumerate(depot.due_places(days), 1):
-        have = due.count(weekday)
-        if have != room:
-            faults.append(("weekday", weekday, have, room))
-    return faults
 
 
 def back_faults(depot, due, crews):

@@ -46,7 +46,7 @@ def marks_of(depot, passes):
 
 def common_reasons(depot, days, passes):
     """The reasons for sum, weekday and beyond that stand, in the order of the conditions."""
-    return (sum_reasons(depot, days, passes) + weekday_reasons(depot, days, passes)
+    return (sum_reasons(depot, days, passes) + weekday_reasons(depot, days, due_of(depot, passes))
             + beyond_reasons(depot, days, passes))
 
 
@@ -57,14 +57,13 @@ def sum_reasons(depot, days, passes):
     return [("sum", total, due)] if total != due else []
 
 
-def weekday_reasons(depot, days, passes):
-    """The weekday reasons that stand, ascending."""
-    weekdays = due_of(depot, passes)
+def weekday_reasons(depot, days, due):
+    """A reason for each weekday on which not as many drivers are due as its due places, ascending."""
     reasons = []
-    for weekday, due in enumerate(depot.due_places(days), 1):
-        have = weekdays.count(weekday)
-        if have != due:
-            reasons.append(("weekday", weekday, have, due))
+    for weekday, room in enumerate(depot.due_places(days), 1):
+        have = due.count(weekday)
+        if have != room:
+            reasons.append(("weekday", weekday, have, room))
     return reasons
 
 
