@@ -7,7 +7,7 @@ from outagain.crews import check_fit, times_in
 def book_of_crews(depot, days, due, crews):
     """A book of so many days with these due weekdays and crews."""
     check_fit(depot, days, due, crews)
-    nexts = list(depot.firsts)
+    nexts = depot.firsts
     stretches = []
     for at, (times, crew) in enumerate(crews):
         limits = deadlines(depot, due, crews[at + 1:])

@@ -69,7 +69,7 @@ def stretches_of_spans(depot, days, spans):
     for at in range(len(cuts) - 1):
         for driver, change in turns[cuts[at]]:
             going[driver] = going[driver] + change
-        runners = tuple([driver for driver in range(depot.size) if going[driver] > 0])
+        runners = [driver for driver in range(depot.size) if going[driver] > 0]
         if len(runners) != depot.quota:
             raise BadLives(cuts[at], "count")
         stretches.append((cuts[at + 1] - cuts[at], runners))

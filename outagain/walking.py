@@ -56,7 +56,8 @@ def check_runners(depot, at, runners, nexts, morning):
 
 def long_runs(depot, morning, behind):
     """How many long runs, one behind another from this morning on, begin ahead of a later one."""
-    return max(0, (behind - morning + depot.period - 1) // depot.period)
+    # Nobody stays away longer than a period, so this is never below 0.
+    return (behind - morning + depot.period - 1) // depot.period
 
 
 def mornings(depot, book):
