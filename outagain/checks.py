@@ -11,21 +11,37 @@ def check_days(days):
         raise OutOfRange(days, "days")
 
 
+def check_driver(depot, driver):
+    """Raise OutOfRange if the depot has no driver of this number."""
+    if not 0 <= driver < depot.size:
+        raise OutOfRange(driver, "driver")
+
+
 def check_passes(depot, passes):
-    """Raise BadPasses if passes is no row of one number for each driver."""
+    """Raise BadPasses if passes is no row of one number, or None if it is not known, for each driver."""
     if len(passes) != depot.size:
         raise BadPasses(len(passes), "length")
     for driver, told in enumerate(passes):
-        if told < 0:
+        if told is not None and told < 0:
             raise BadPasses(driver, "pass")
 
 
 def check_due(depot, due):
     """Raise BadWish if due is no row of one weekday for each driver."""
-    if len(due) != depot.size:
-        raise BadWish(len(due), "length")
-    for driver, weekday in enumerate(due):
-        if not 1 <= weekday <= depot.period:
+    check_weekdays(depot, due, 1)
+
+
+def check_wish(depot, wish):
+    """Raise BadWish if wish is no row of one weekday, or 0, for each driver."""
+    check_weekdays(depot, wish, 0)
+
+
+def check_weekdays(depot, row, least):
+    """Raise BadWish if row is no row of one number from least to the period for each driver."""
+    if len(row) != depot.size:
+        raise BadWish(len(row), "length")
+    for driver, weekday in enumerate(row):
+        if not least <= weekday <= depot.period:
             raise BadWish(driver, "weekday")
 
 

@@ -73,6 +73,49 @@ LONGBOOKS = """
 [300000000000000000000, (299999999999999999997, 0, 3, 0)]
 """
 
+WISHES = """
+>>> from outagain.depots import Depot
+>>> from outagain.wishes import reach, day_rows, least_day
+>>> depot = Depot(3, 1, [1, 1, 2, 3])
+>>> [reach(depot, 4, [2, 2, 1, 3]), reach(depot, 1, [2, 2, 1, 3])[0], least_day(depot, [2, 2, 1, 3])]
+[('reached', [2, 2, 1, 3]), 'closings', ('least', 4, [2, 2, 1, 3])]
+
+>>> from outagain.depots import Depot
+>>> from outagain.wishes import day_rows
+>>> day_rows(Depot(3, 1, [1, 1, 2, 3]), [2, 2, 1, 3])
+[('crowd', 1, 2, 2, 1), ('from', 2, 4), ('crowd', 3, 2, 2, 1)]
+"""
+
+MEETINGS = """
+>>> from outagain.depots import Depot
+>>> from outagain.meetings import meeting
+>>> depot = Depot(3, 1, [1, 1, 2, 3])
+>>> [meeting(depot, 2, 3)[:3], meeting(depot, 0, 1, home=True)[:3], meeting(depot, 0, 1, 2)]
+[('least', 2, 3), ('least', 0, 1), ('never', 2)]
+"""
+
+PASSVALUES = """
+>>> from outagain.depots import Depot
+>>> from outagain.passvalues import pass_values, settled, misread, exchanges
+>>> depot = Depot(3, 1, [1, 1, 2, 3])
+>>> [pass_values(depot, 7, [1, 2, None, None], 2), settled(depot, 7, [1, 2, 2, None], 3)]
+[[(1, 2, 2), (2, 0, 3)], ('sure', 2)]
+
+>>> from outagain.depots import Depot
+>>> from outagain.passvalues import misread, exchanges, mending
+>>> depot = Depot(3, 1, [1, 1, 2, 3])
+>>> [misread(depot, 7, [1, 2, 2, 3]), exchanges(depot, 7, [2, 1, 2, 2]), mending(depot, 7, [1, 2, 2, 3])[0]]
+[[(1, 1), (3, 2)], [(0, 1)], 1]
+"""
+
+PASSORDER = """
+>>> from outagain.depots import Depot
+>>> from outagain.passorder import first_row, last_row, next_row, previous_row
+>>> depot = Depot(3, 1, [1, 1, 2, 3])
+>>> [first_row(depot, 7), last_row(depot, 7), next_row(depot, 7, [1, 2, 2, 2]), previous_row(depot, 7, [1, 2, 2, 2])]
+[[0, 1, 1, 5], [7, 0, 0, 0], [1, 2, 3, 1], [1, 2, 0, 4]]
+"""
+
 
 class ExampleTest(unittest.TestCase):
     def hold(self, text):
@@ -113,6 +156,18 @@ class ExampleTest(unittest.TestCase):
 
     def test_longbooks(self):
         self.hold(LONGBOOKS)
+
+    def test_wishes(self):
+        self.hold(WISHES)
+
+    def test_meetings(self):
+        self.hold(MEETINGS)
+
+    def test_passvalues(self):
+        self.hold(PASSVALUES)
+
+    def test_passorder(self):
+        self.hold(PASSORDER)
 
 
 if __name__ == "__main__":
