@@ -8,15 +8,15 @@ class Half:
     """What a told row leaves open behind so many days; it never changes."""
 
     def __init__(self, depot, days, told):
-        self.closings = depot.closings(days)
+        self.rounds = depot.closings(days)
         self.last = depot.last_weekday(days)
         self.free = [driver for driver, known in enumerate(told) if known is None]
         self.firsts = [depot.firsts[driver] for driver in self.free]
         marks = [mark for _, mark in told_marks(depot, told)]
         self.rooms = left_places(depot, days, [depot.weekday(mark) for mark in marks])
-        self.left = depot.quota * self.closings - sum([(mark - 1) // depot.period for mark in marks])
+        self.left = depot.quota * self.rounds - sum([(mark - 1) // depot.period for mark in marks])
         served = [mark for mark in marks if depot.weekday(mark) <= self.last and mark > depot.period]
-        self.lack = max(0, depot.quota - len(served)) if self.closings > 0 else 0
+        self.lack = max(0, depot.quota - len(served)) if self.rounds > 0 else 0
 
     def closing_needs(self):
         """The needs of the condition closings, for each r."""
@@ -34,7 +34,7 @@ class Half:
         """The greatest number of crews that the free drivers can be in together."""
         early = sum(self.rooms[:self.last])
         late = sum(self.rooms[self.last:])
-        return self.closings * early + (self.closings - 1) * late if self.closings > 0 else 0
+        return self.rounds * early + max(0, self.rounds - 1) * late
 
 
 def complete(depot, days, told):
@@ -85,7 +85,7 @@ def completed(depot, days, told):
     """The completion of a told row that has one."""
     half = Half(depot, days, told)
     weekdays = deal(half.rooms, half.firsts)
-    crews = share_crews(half.firsts, weekdays, half.last, half.closings, half.left, half.lack)
+    crews = share_crews(half.firsts, weekdays, half.last, half.rounds, half.left, half.lack)
     row = list(told)
     for driver, weekday, times in zip(half.free, weekdays, crews):
         row[driver] = weekday - depot.firsts[driver] + depot.period * times

@@ -6,37 +6,33 @@ from outagain.passvalues import pass_values
 
 def first_row(depot, days):
     """The least possible row."""
-    check_days(days)
     return lowest(depot, days, [])
 
 
 def last_row(depot, days):
     """The greatest possible row."""
-    check_days(days)
     return highest(depot, days, [])
 
 
 def next_row(depot, days, passes):
     """The least possible row that is greater, or None."""
-    check_days(days)
-    check_passes(depot, passes)
-    for kept in range(depot.size - 1, -1, -1):
-        front = list(passes[:kept])
-        above = least_above(depot, values_behind(depot, days, front), passes[kept])
-        if above is not None:
-            return lowest(depot, days, front + [above])
-    return None
+    return row_beside(depot, days, passes, least_above, lowest)
 
 
 def previous_row(depot, days, passes):
     """The greatest possible row that is less, or None."""
+    return row_beside(depot, days, passes, greatest_below, highest)
+
+
+def row_beside(depot, days, passes, nearest, filled):
+    """The possible row that has most in common with the passes, then the nearest pass, and is filled behind it."""
     check_days(days)
     check_passes(depot, passes)
     for kept in range(depot.size - 1, -1, -1):
         front = list(passes[:kept])
-        below = greatest_below(depot, values_behind(depot, days, front), passes[kept])
-        if below is not None:
-            return highest(depot, days, front + [below])
+        told = nearest(depot, values_behind(depot, days, front), passes[kept])
+        if told is not None:
+            return filled(depot, days, front + [told])
     return None
 
 

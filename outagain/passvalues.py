@@ -67,8 +67,6 @@ def mending(depot, days, passes):
     """(count, drivers, row): the fewest drivers whose passes are replaced in a possible row, and the row."""
     if depot.size > MOST_TO_MEND:
         raise OutOfRange(depot.size, "drivers")
-    check_days(days)
-    check_passes(depot, passes)
     # Some row is always possible, so with all drivers at the latest there is one. As fewer drivers
     # were not enough, each of those that are found gets another pass than it had.
     for count in range(depot.size + 1):
@@ -93,7 +91,7 @@ def values_on(depot, days, told, driver, weekday):
         return values
     half = Half(depot, days, row)
     least = max(1, 1 + half.left - half.most())
-    greatest = min(half.closings if weekday <= half.last else half.closings - 1, 1 + half.left - half.need())
+    greatest = min(half.rounds if weekday <= half.last else half.rounds - 1, 1 + half.left - half.need())
     if least <= greatest:
         values.extend([base + depot.period * least, base + depot.period * greatest])
     return values

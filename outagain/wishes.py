@@ -51,8 +51,8 @@ def book_of_wish(depot, days, wish):
         raise NoBook(answer)
     due = answer[1]
     closings = depot.closings(days)
-    lack = depot.quota if closings > 0 else 0
-    crews = share_crews(depot.firsts, due, depot.last_weekday(days), closings, depot.quota * closings, lack)
+    left = depot.quota * closings
+    crews = share_crews(depot.firsts, due, depot.last_weekday(days), closings, left, min(left, depot.quota))
     passes = [weekday - first + depot.period * times
               for weekday, first, times in zip(due, depot.firsts, crews)]
     return book_of_passes(depot, days, passes)
@@ -100,7 +100,7 @@ def least_closings(depot, weekday, wish):
 
 def closings_for(depot, need):
     """The least number of closings that together have so many day runs."""
-    return max(0, (need + depot.quota - 1) // depot.quota)
+    return (need + depot.quota - 1) // depot.quota
 
 
 def completed(depot, days, wish):

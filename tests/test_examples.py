@@ -116,6 +116,39 @@ PASSORDER = """
 [[0, 1, 1, 5], [7, 0, 0, 0], [1, 2, 3, 1], [1, 2, 0, 4]]
 """
 
+ROWNUMBERS = """
+>>> from outagain.depots import Depot
+>>> from outagain.rownumbers import number_of, rank
+>>> depot = Depot(3, 1, [1, 1, 2, 3])
+>>> [number_of(depot, 7, [None, None, None, None]), rank(depot, 7, [1, 2, 2, 2]), number_of(depot, 7, [1, 2, None, None])]
+[52, 20, 3]
+"""
+
+BOUNDS = """
+>>> from outagain.depots import Depot
+>>> from outagain.bounds import within
+>>> depot = Depot(3, 1, [1, 1, 2, 3])
+>>> [within(depot, 36, [9, 9, 9, 9], [9, 9, 9, 9]), within(depot, 36, [10, 9, 9, 9], [12, 12, 12, 12])[0]]
+[('passes', [9, 9, 9, 9]), 'least']
+"""
+
+FAIRNESS = """
+>>> from outagain.depots import Depot
+>>> from outagain.fairness import most_for_all, spread
+>>> depot = Depot(3, 1, [1, 1, 2, 3])
+>>> [most_for_all(depot, 36)[:2], spread(depot, 36)]
+[(9, [9, 9, 9, 9]), (0, [9, 9, 9, 9], [])]
+"""
+
+JOINS = """
+>>> from outagain.depots import Depot
+>>> from outagain.joins import turned, linked
+>>> from outagain.books import Book
+>>> depot = Depot(3, 1, [1, 1, 2, 3])
+>>> [turned(depot, 7, [1, 2, 2, 2]).firsts, linked(depot, Book([(1, [1])]), Book([(2, [1])])).passes]
+[(1, 2, 3, 1), (0, 3, 0, 0)]
+"""
+
 
 class ExampleTest(unittest.TestCase):
     def hold(self, text):
@@ -168,6 +201,18 @@ class ExampleTest(unittest.TestCase):
 
     def test_passorder(self):
         self.hold(PASSORDER)
+
+    def test_rownumbers(self):
+        self.hold(ROWNUMBERS)
+
+    def test_bounds(self):
+        self.hold(BOUNDS)
+
+    def test_fairness(self):
+        self.hold(FAIRNESS)
+
+    def test_joins(self):
+        self.hold(JOINS)
 
 
 if __name__ == "__main__":

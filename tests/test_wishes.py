@@ -39,11 +39,11 @@ class ReachTest(ReasonTest):
             self.assertIn(reached, (None, set()))
         else:
             self.same(answer, ("reached", [int(c) for c in answer[1]]))
-            self.assertTrue(tuple(answer[1]) in reached if reached is not None else self.fits(depot, days, wish, answer))
+            right = self.fits(depot, days, wish, answer[1]) if reached is None else tuple(answer[1]) in reached
+            self.assertTrue(right)
         return answer
 
-    def fits(self, depot, days, wish, answer):
-        due = answer[1]
+    def fits(self, depot, days, wish, due):
         self.assertTrue(all(told in (0, c) for told, c in zip(wish, due)))
         self.assertEqual([due.count(c) for c in range(1, depot.period + 1)], due_places(depot, days))
         return not any(breaks for _, breaks in wish_numbers(depot, days, due))
