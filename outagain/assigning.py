@@ -14,12 +14,12 @@ def deal_at_least_cost(costs, rooms):
     dealt = []
     for driver in range(len(costs)):
         ways = routes(costs, dealt, driver)
-        ends = [(cost, weekday) for weekday, (cost, _) in ways.items() if dealt.count(weekday) < rooms[weekday - 1]]
+        ends = [weekday for weekday in ways if dealt.count(weekday) < rooms[weekday - 1]]
         if not ends:
             crowd = [other for other, weekday in enumerate(dealt) if weekday in ways] + [driver]
             return ("crowd", tuple(crowd), tuple(sorted(ways)))
-        _, end = min(ends)
-        dealt = moved(dealt, ways, end)
+        # Any end will do: in the end all places are taken, and no way to an end costs more than it must.
+        dealt = moved(dealt, ways, ends[0])
     return ("dealt", dealt)
 
 

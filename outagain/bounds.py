@@ -126,11 +126,11 @@ def marks_between(begins, goals, rings, target):
     """Marks with just the target as their sum, with rings of drivers moved from their begins to their goals."""
     marks = list(begins)
     for ring in rings:
-        gain = sum([goals[driver] - begins[driver] for driver in ring])
-        if gain > 0 and sum(marks) + gain > target:
+        # As the begins have the least sum of all dealings, no ring makes the sum less.
+        moved = [goals[driver] if driver in ring else mark for driver, mark in enumerate(marks)]
+        if sum(moved) > target:
             return marks_in_ring(marks, goals, ring, target)
-        if gain > 0:
-            marks = [goals[driver] if driver in ring else mark for driver, mark in enumerate(marks)]
+        marks = moved
     return marks
 
 
