@@ -74,10 +74,9 @@ def count_dealings(half, ways, back, late_back):
     weekday, and so many to later ones; ways are the back_ways."""
     total = 0
     for (some, late_some), many in ways.items():
-        if some >= back and late_some >= late_back:
-            sign = 1 if (some + late_some - back - late_back) % 2 == 0 else -1
-            rest = factorial(len(half.free) - some - late_some)
-            total = total + sign * many * rest * comb(some, back) * comb(late_some, late_back)
+        sign = 1 if (some + late_some - back - late_back) % 2 == 0 else -1
+        rest = factorial(len(half.free) - some - late_some)
+        total = total + sign * many * rest * comb(some, back) * comb(late_some, late_back)
     for room in half.rooms:
         # The places of a weekday were told apart so far.
         total = total // factorial(room)
@@ -94,8 +93,7 @@ def back_ways(half):
             grown = {pair: many for pair, many in ways.items()}
             for (early, late), many in ways.items():
                 pair = (early + 1, late) if weekday <= half.last else (early, late + 1)
-                if able > early + late:
-                    grown[pair] = grown.get(pair, 0) + many * (able - early - late)
+                grown[pair] = grown.get(pair, 0) + many * (able - early - late)
             ways = grown
     return ways
 
