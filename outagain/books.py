@@ -3,7 +3,7 @@
 from outagain.checks import MOST_DAYS, ascending
 from outagain.depots import Depot
 from outagain.errors import BadBook, OutOfRange
-from outagain.neighbours import join_neighbours
+from outagain.neighbours import front_pairs, join_neighbours, rear_pairs
 
 MOST_STRETCHES = 400
 MOST_ROWS = 400
@@ -32,32 +32,19 @@ class Book:
 
     def runners_on(self, morning):
         """Who gets the day runs on this morning."""
-        if not 1 <= morning <= self.days:
-            raise OutOfRange(morning, "morning")
+        check_morning(self, morning)
         _, runners = self.tail(morning - 1).stretches[0]
         return runners
 
     def head(self, days):
         """The book of the first so many days."""
         check_part(self, days)
-        kept = []
-        left = days
-        for many, runners in self.stretches:
-            if left > 0:
-                kept.append((min(many, left), runners))
-            left = left - many
-        return Book(kept)
+        return Book(front_pairs(self.stretches, days))
 
     def tail(self, days):
         """The book of what is behind the first so many days."""
         check_part(self, days)
-        kept = []
-        left = days
-        for many, runners in self.stretches:
-            if many > left:
-                kept.append((many - max(0, left), runners))
-            left = left - many
-        return Book(kept)
+        return Book(rear_pairs(self.stretches, days))
 
     def flipped(self):
         """The book with the stretches in reverse order."""
@@ -88,6 +75,12 @@ def check_stretches(stretches):
         total = total + days
         if total > MOST_DAYS:
             raise BadBook(at, "total")
+
+
+def check_morning(book, morning):
+    """Raise OutOfRange if the book does not have this morning."""
+    if not 1 <= morning <= book.days:
+        raise OutOfRange(morning, "morning")
 
 
 def check_part(book, days):

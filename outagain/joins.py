@@ -3,8 +3,8 @@
 from outagain.books import Book
 from outagain.checks import check_days, check_passes
 from outagain.depots import Depot
-from outagain.errors import NoBook, OutOfRange
-from outagain.judging import due_of, marks_of, weekday_reasons
+from outagain.errors import OutOfRange
+from outagain.judging import check_weekdays_dealt, marks_of
 from outagain.longbooks import book_of_passes
 from outagain.walking import After, walk
 
@@ -13,10 +13,14 @@ def linked(depot, *books):
     """What is known behind the books, each of which begins where the one ahead ended."""
     whole = walk(depot, Book([]))
     for book in books:
-        part = walk(whole.standing(), book)
-        whole = After(depot, whole.days + part.days, added(whole.passes, part.passes),
-                      added(whole.longs, part.longs), [whole.days + morning for morning in part.nexts])
+        whole = followed(depot, whole, walk(whole.standing(), book))
     return whole
+
+
+def followed(depot, whole, part):
+    """What is known behind the whole and then the part, which was walked from the standing behind the whole."""
+    return After(depot, whole.days + part.days, added(whole.passes, part.passes),
+                 added(whole.longs, part.longs), [whole.days + morning for morning in part.nexts])
 
 
 def cut(depot, book, days):
@@ -41,9 +45,7 @@ def turned(depot, days, passes):
     """The standing behind so many days with these passes."""
     check_days(days)
     check_passes(depot, passes)
-    reasons = weekday_reasons(depot, days, due_of(depot, passes))
-    if reasons:
-        raise NoBook(reasons[0])
+    check_weekdays_dealt(depot, days, passes)
     firsts = [(mark - days - 1) % depot.period + 1 for mark in marks_of(depot, passes)]
     return Depot(depot.period, depot.quota, firsts)
 

@@ -1,6 +1,7 @@
 """Judging rows of passes: whether some book has them, and if none has, why."""
 
 from outagain.checks import check_days, check_passes
+from outagain.errors import NoBook
 
 POSSIBLE = ("possible",)
 
@@ -18,6 +19,20 @@ def judge(depot, days, passes):
 def possible(depot, days, passes):
     """True if some book of so many days has these passes."""
     return judge(depot, days, passes) == POSSIBLE
+
+
+def check_possible(depot, days, passes):
+    """Raise NoBook if no book of so many days has these passes."""
+    verdict = judge(depot, days, passes)
+    if verdict != POSSIBLE:
+        raise NoBook(verdict)
+
+
+def check_weekdays_dealt(depot, days, passes):
+    """Raise NoBook with the first weekday reason if the passes do not satisfy the condition weekday."""
+    reasons = weekday_reasons(depot, days, due_of(depot, passes))
+    if reasons:
+        raise NoBook(reasons[0])
 
 
 def all_reasons(depot, days, passes):

@@ -1,8 +1,7 @@
 """Crews and books for possible passes, also for very many days."""
 
 from outagain.deadlines import book_of_crews
-from outagain.errors import NoBook
-from outagain.judging import POSSIBLE, due_of, judge, marks_of
+from outagain.judging import check_possible, due_of, marks_of
 from outagain.neighbours import join_neighbours
 
 
@@ -14,16 +13,19 @@ def book_of_passes(depot, days, passes):
 
 def crews_of_passes(depot, days, passes):
     """Crews that fit the due weekdays of the passes, each driver as often as the passes tell."""
-    verdict = judge(depot, days, passes)
-    if verdict != POSSIBLE:
-        raise NoBook(verdict)
+    check_possible(depot, days, passes)
     closings = depot.closings(days)
     if closings == 0:
         return []
-    needs = [(mark - 1) // depot.period for mark in marks_of(depot, passes)]
+    needs = crew_counts(depot, passes)
     last = last_crew(depot, days, due_of(depot, passes), needs)
     rest = [need - (1 if driver in last else 0) for driver, need in enumerate(needs)]
     return join_neighbours(shared_crews(depot.quota, closings - 1, rest) + [(1, last)])
+
+
+def crew_counts(depot, passes):
+    """In how many crews each driver is."""
+    return [(mark - 1) // depot.period for mark in marks_of(depot, passes)]
 
 
 def last_crew(depot, days, due, needs):

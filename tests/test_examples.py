@@ -149,6 +149,40 @@ JOINS = """
 [(1, 2, 3, 1), (0, 3, 0, 0)]
 """
 
+MIRRORS = """
+>>> from outagain.depots import Depot
+>>> from outagain.mirrors import mirrored_depot
+>>> mirrored_depot(Depot(3, 1, [1, 1, 2, 3]), 7, [1, 2, 2, 2]).firsts
+(1, 3, 2, 1)
+"""
+
+MERGES = """
+>>> from outagain.depots import Depot
+>>> from outagain.books import Book
+>>> from outagain.merges import merged, merged_book, renamed
+>>> one = Depot(2, 1, [1, 1, 2])
+>>> two = Depot(2, 1, [1, 2])
+>>> both = merged_book([one, two], [Book([(2, [0])]), Book([(1, [0]), (1, [1])])])
+>>> [merged(one, two).firsts, both.stretches, renamed(one, [2, 0, 1]).firsts]
+[(1, 1, 2, 1, 2), ((1, (0, 3)), (1, (0, 4))), (2, 1, 1)]
+"""
+
+WORLDS = """
+>>> from outagain.depots import Depot
+>>> from outagain.notes import fits, agreeing
+>>> from outagain.worlds import asked
+>>> depot = Depot(3, 1, [1, 1, 2, 3])
+>>> fits(depot, 7, [1, 2, 2, 2], [(1, 2, True)])
+('fits', [(1, (2,)), (1, (3,))])
+
+>>> from outagain.depots import Depot
+>>> from outagain.notes import fits, agreeing
+>>> from outagain.worlds import asked
+>>> depot = Depot(3, 1, [1, 1, 2, 3])
+>>> [asked(depot, 7, [1, 2, 2, 2], [], 2, 2)[0], asked(depot, 7, [1, 2, 2, 2], [(1, 2, True)], 2, 3)[0], agreeing(depot, 7, [1, 2, 2, 2], [(1, 2, True), (2, 2, True)])[0]]
+['open', 'always', 1]
+"""
+
 
 class ExampleTest(unittest.TestCase):
     def hold(self, text):
@@ -213,6 +247,15 @@ class ExampleTest(unittest.TestCase):
 
     def test_joins(self):
         self.hold(JOINS)
+
+    def test_mirrors(self):
+        self.hold(MIRRORS)
+
+    def test_merges(self):
+        self.hold(MERGES)
+
+    def test_worlds(self):
+        self.hold(WORLDS)
 
 
 if __name__ == "__main__":

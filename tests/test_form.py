@@ -41,6 +41,7 @@ def bound_names(tree):
     found = [node.name for node in nodes(tree, ast.FunctionDef, ast.ClassDef)]
     found += [node.arg for node in nodes(tree, ast.arg)]
     found += [node.id for node in nodes(tree, ast.Name) if not isinstance(node.ctx, ast.Load)]
+    found += [node.name for node in nodes(tree, ast.ExceptHandler) if node.name]
     return found
 
 
@@ -176,6 +177,41 @@ class FormTest(unittest.TestCase):
         for _, tree in self.each():
             for node in nodes(tree, ast.Attribute):
                 self.assertIn(node.attr, known)
+
+    def test_caught_errors_are_own_ones_and_have_a_name_of_their_own(self):
+        kinds = {node.name for node in nodes(trees()[PACKAGE / "errors.py"], ast.ClassDef)}
+        for _, tree in self.each():
+            for node in nodes(tree, ast.ExceptHandler):
+                told = node.type.elts if isinstance(node.type, ast.Tuple) else [node.type]
+                self.assertLessEqual({part.id for part in told}, kinds)
+            for part in nodes(tree, ast.FunctionDef):
+                names = [node.name for node in nodes(part, ast.ExceptHandler) if node.name]
+                names += [node.id for node in nodes(part, ast.Name) if not isinstance(node.ctx, ast.Load)]
+                caught = [node.name for node in nodes(part, ast.ExceptHandler) if node.name]
+                self.assertEqual([name for name in caught if names.count(name) > 1], [])
+
+    def test_errors_are_created_where_they_are_raised(self):
+        kinds = {node.name for node in nodes(trees()[PACKAGE / "errors.py"], ast.ClassDef)}
+        for _, tree in self.each():
+            for node in nodes(tree, ast.Raise):
+                self.assertIsInstance(node.exc, ast.Call)
+                self.assertIn(node.exc.func.id, kinds)
+
+    def test_properties_are_not_assigned(self):
+        told = [node for tree in trees().values() for node in nodes(tree, ast.FunctionDef)]
+        plain = {node.name for node in told if "property" not in map(ast.unparse, node.decorator_list)}
+        properties = {node.name for node in told} - plain
+        self.assertLessEqual({"size", "places"}, properties)
+        for _, tree in self.each():
+            stored = {node.attr for node in nodes(tree, ast.Attribute) if not isinstance(node.ctx, ast.Load)}
+            self.assertEqual(stored & properties, set())
+
+    def test_no_attribute_has_the_name_of_a_method(self):
+        methods = {node.name for tree in trees().values() for kind in nodes(tree, ast.ClassDef)
+                   for node in kind.body if isinstance(node, ast.FunctionDef)}
+        for _, tree in self.each():
+            stored = {node.attr for node in nodes(tree, ast.Attribute) if not isinstance(node.ctx, ast.Load)}
+            self.assertEqual(stored & methods, set())
 
 
 if __name__ == "__main__":
