@@ -183,6 +183,61 @@ WORLDS = """
 ['open', 'always', 1]
 """
 
+TOLDBACK = """
+>>> from outagain.depots import Depot
+>>> from outagain.forever import far, widest, parting
+>>> depot = Depot(3, 1, [1, 1, 2, 3])
+>>> rows = [[0, 1, 2, 3], [0, 1, 2, 3], [0, 1, 2, 3]]
+>>> others = [[0, 1, 2, 3], [3, 2, 1, 0], [0, 1, 2, 3]]
+>>> [far(depot, rows, 9), widest(depot, rows), parting(depot, rows, others)]
+[((9, 0, 0, 0), (10, 10, 11, 12)), ('endless', 0, 1), ('part', 2)]
+"""
+
+DESK = """
+>>> from outagain.depots import Depot
+>>> from outagain.desk import Desk
+>>> desk = Desk(Depot(3, 1, [1, 1, 2, 3]))
+>>> desk.send([1])
+>>> desk.set_goal(7, [1, 2, 2, 2])
+>>> desk.send_all([(1, [2]), (2, [3])])
+>>> after = desk.after()
+>>> desk.undo()
+>>> [after.passes, desk.today, desk.goal, desk.can_send([0]), desk.can_send([2])]
+[(0, 1, 1, 2), 1, (7, (1, 2, 2, 2)), False, True]
+
+>>> from outagain.depots import Depot
+>>> from outagain.desk import Desk
+>>> desk = Desk(Depot(3, 1, [1, 1, 2, 3]))
+>>> desk.send([1])
+>>> desk.set_goal(7, [0, 1, 1, 5])
+>>> desk.exchange(1, 0, 1)
+raises GoalLost(('gone', 0))
+
+>>> from outagain.depots import Depot
+>>> from outagain.desk import Desk
+>>> desk = Desk(Depot(3, 1, [1, 1, 2, 3]))
+>>> desk.send([1])
+>>> desk.exchange(1, 0, 1)
+>>> desk.redo()
+raises NothingLeft
+"""
+
+PHRASES = """
+>>> from outagain.phrases import read_script
+>>> read_script("depot 3 1 1 1 2 3\\nsend 2 0\\nask number 7 1 - - 2")
+[('depot', 3, 1, (1, 1, 2, 3)), ('send', 2, (0,)), ('ask', 'number', 7, (1, None, None, 2))]
+
+>>> from outagain.phrases import read_script
+>>> read_script("depot 3 1 1 1 2 3\\nsend 02 0")
+raises BadLine(2, "number")
+"""
+
+SCRIPTS = """
+>>> from outagain.scripts import run_script
+>>> run_script("depot 3 1 1 1 2 3\\nsend 1 1\\nask due\\nsend 1 3\\nundo\\nask days\\nask soonest 2 2 1 3\\nask values 7 2 1 2 - -")
+['due 1 2 2 3', 'refused away', 'days 0', 'soonest 4', 'values 1:2-2 2:0-3']
+"""
+
 
 class ExampleTest(unittest.TestCase):
     def hold(self, text):
@@ -197,7 +252,7 @@ class ExampleTest(unittest.TestCase):
                 self.assertEqual(repr(eval(last.removeprefix(">>> "), names)), told)
 
     def raises(self, line, told, names):
-        expected = eval(told, dict(vars(outagain.errors)))
+        expected = eval(told if told.endswith(")") else told + "()", dict(vars(outagain.errors)))
         with self.assertRaises(type(expected)) as caught:
             exec(line, names)
         self.assertIs(type(caught.exception), type(expected))
@@ -256,6 +311,18 @@ class ExampleTest(unittest.TestCase):
 
     def test_worlds(self):
         self.hold(WORLDS)
+
+    def test_toldback(self):
+        self.hold(TOLDBACK)
+
+    def test_desk(self):
+        self.hold(DESK)
+
+    def test_phrases(self):
+        self.hold(PHRASES)
+
+    def test_scripts(self):
+        self.hold(SCRIPTS)
 
 
 if __name__ == "__main__":
