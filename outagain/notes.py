@@ -164,8 +164,8 @@ def woven(rows, crews):
 
 def crews_stand(inquiry, crews):
     """True if these are crews that agree with the notes and are told as they have to be."""
+    # If everybody is in as many crews as needed, they are crews of just all closings.
     return (well_formed(inquiry, crews)
-            and sum([times for times, _ in crews]) == inquiry.rounds
             and [times_in(crews, driver) for driver in inquiry.everybody] == inquiry.needs
             and all([agrees(inquiry, crews, closing) for closing in inquiry.told]))
 
@@ -180,7 +180,7 @@ def well_formed(inquiry, crews):
         if times < 1 or len(crew) != inquiry.quota or not ascending(crew, size):
             return False
     rows = [(times, tuple(crew)) for times, crew in crews]
-    return len(join_neighbours(rows)) == len(rows) <= size + 2 * len(inquiry.noted) + 3
+    return len(join_neighbours(rows)) == len(rows) and len(rows) <= size + 2 * len(inquiry.noted) + 3
 
 
 def agrees(inquiry, crews, closing):

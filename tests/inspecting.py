@@ -184,6 +184,18 @@ def changed_crews(crews):
             yield front + [(times, rear[0][1])] + rear
         for changed in changed_drivers(list(crew)):
             yield front + [(times, changed)] + rear
-    for crew in {crew for _, crew in rows}:
+    for crew in sorted({crew for _, crew in rows}):
         yield rows + [(1, crew)]
         yield [(1, crew)] + rows
+        for at in range(len(rows) + 1):
+            yield rows[:at] + [(0, crew)] + rows[at:]
+            yield rows[:at] + [(1, crew), (-1, crew)] + rows[at:]
+    for (times, crew), (more, other) in itertools.pairwise(rows):
+        at = rows.index((times, crew))
+        yield rows[:at] + [(times + 1, crew), (more, other), (-1, crew)] + rows[at + 2:]
+        for driver in set(other) - set(crew):
+            # The same numbers of crews for everybody, but one crew too great and one too small.
+            great, small = tuple(sorted({*crew, driver})), tuple(part for part in other if part != driver)
+            yield rows[:at] + [(min(times, more), great), (min(times, more), small), (times - min(times, more), crew),
+                               (more - min(times, more), other)] + rows[at + 2:]
+            yield rows[:at] + [(times, great), (more, small)] + rows[at + 2:]

@@ -156,7 +156,8 @@ class PartingTest(PromiseTest):
             answer = self.parts(depot, rows, others)
             late = answer[1] > depot.period if answer[0] == "part" else rows != others
             found[answer[0], late] = found.get((answer[0], late), 0) + 1
-        self.assertTrue(all(found.get(kind, 0) > 3 for kind in (("part", True), ("part", False), ("alike", True))), found)
+        kinds = (("part", True), ("part", False), ("alike", True))
+        self.assertTrue(all(found.get(kind, 0) > 3 for kind in kinds), found)
 
     def test_lists_that_part_late(self):
         depot = Depot(6, 1, [1, 4, 2, 1, 3, 4])

@@ -205,8 +205,9 @@ class StandsTest(NotesTest):
                 self.asked(depot, book.days, passes, notes, ("fits", crews))
             drivers = tuple(sorted(dice.sample(range(depot.size), dice.randint(0, depot.size))))
             self.asked(depot, book.days, passes, notes, ("not", drivers))
-            self.asked(depot, book.days, passes, notes, ("clash", dice.choice([1, closings]), drivers[0] if drivers else 0))
-        self.assertTrue(all(words[word] > 9 for word in ("fits", "clash", "not")), words)
+            clash = ("clash", dice.choice([1, closings]), dice.randrange(depot.size))
+            self.asked(depot, book.days, passes, notes, clash)
+        self.assertTrue(all(words[word] > 3 for word in ("fits", "clash", "not")), words)
 
     def test_all_sets_of_drivers(self):
         notes = [(1, 2, True), (2, 2, True)]
@@ -235,6 +236,30 @@ class StandsTest(NotesTest):
         self.assertIs(fits_stands(depot, 6, [3, 3], [], ("fits", crews[:6])), False)
         self.assertIs(fits_stands(depot, 7, [4, 3], [(1, 0, True)], ("fits", crews[:7])), True)
         self.assertIs(fits_stands(depot, 8, [4, 4], [(1, 0, True)] * 2, ("fits", crews[:8])), False)
+
+    def test_equal_neighbours_of_unlike_kinds(self):
+        depot = Depot(1, 1, [1, 1])
+        for crews in ([(1, [0]), (1, (0,)), (1, (1,))], [(1, (0,)), [1, [0]], (1, (1,))],
+                      [[1, [0]], [1, [0]], [1, [1]]]):
+            self.assertIs(fits_stands(depot, 3, [2, 1], [], ("fits", crews)), False)
+        for crews in ([(2, [0]), (1, (1,))], ((1, (0,)), [1, [1]], (1, [0]))):
+            self.assertIs(fits_stands(depot, 3, [2, 1], [], ("fits", crews)), True)
+
+    def test_other_forms(self):
+        depot = Depot(1, 1, [1, 1])
+        for answer in (("fits", 3), ("not", 3), ("fits", [3]), ("fits", [(3,)]), ("fits", [(2, (0,), 1), (1, (1,))]),
+                       ("fits", [(2, (0,)), (1, (1,), 0)]), ("not", [(2, (0,)), (1, (1,))]), ("not", ((0,),)),
+                       ("fits", (0, 1)), ("fits",), ("not",), ("fits", [(2, (0,)), (1, (1,))], 0)):
+            self.assertIs(fits_stands(depot, 3, [2, 1], [], answer), False)
+
+    def test_crews_too_great_and_too_small(self):
+        depot = Depot(1, 1, [1, 1])
+        self.assertIs(fits_stands(depot, 2, [1, 1], [], ("fits", [(1, (0,)), (1, (1,))])), True)
+        self.assertIs(fits_stands(depot, 2, [1, 1], [], ("fits", [(1, (0, 1)), (1, ())])), False)
+        self.assertIs(fits_stands(depot, 2, [1, 1], [], ("fits", [(1, ()), (1, (0, 1))])), False)
+        self.assertIs(fits_stands(depot, 2, [1, 1], [], ("fits", [(1, (0,)), (0, (0,)), (1, (1,))])), False)
+        self.assertIs(fits_stands(depot, 2, [1, 1], [], ("fits", [(2, (0,)), (1, (1,)), (-1, (0,))])), False)
+        self.assertIs(fits_stands(depot, 2, [1, 1], [], ("fits", [(0, (1,)), (1, (0,)), (1, (1,))])), False)
 
     def test_without_a_closing(self):
         for answer, expected in ((("fits", []), True), (("fits", ()), True), (("not", ()), False),

@@ -9,8 +9,10 @@ from tests.support import FAR, PromiseTest, new_dice
 
 HEAD = "depot 3 1 1 1 2 3\n"
 GREAT = 10 ** 31 - 1
-VOCABULARY = """depot send exchange amend goal nogoal undo redo ask ask ask ask days passes due book crews verdict soonest
-number values next Ask days: 0 1 2 3 7 12 - - 01 00 -1 +1 1.0 x 0x1 1_0 ~ ! sends undo.""".split() + [str(GREAT), "1" + "0" * 31]
+VOCABULARY = """depot send exchange amend goal nogoal undo redo ask ask ask ask days passes due book crews verdict
+soonest number values next Ask days: 0 1 2 3 7 12 - - 01 00 -1 +1 1.0 x 0x1 1_0 ~ ! sends undo.""".split()
+VOCABULARY += [str(GREAT), str(GREAT + 1)]
+NO_NUMBERS = """01 00 -1 +1 x 1x x1 1.0 1,0 1_0 0x1 - -- '1' 1e3""".split() + [str(GREAT + 1)]
 
 
 def drawn_number(dice):
@@ -32,7 +34,8 @@ def drawn_line(dice, form):
 
 def drawn_script(dice, lines):
     """A good script of so many lines."""
-    return "\n".join([drawn_line(dice, FORMS[0])] + [drawn_line(dice, dice.choice(FORMS[1:])) for _ in range(lines - 1)])
+    forms = FORMS[:1] + dice.choices(FORMS[1:], k=lines - 1)
+    return "\n".join([drawn_line(dice, form) for form in forms])
 
 
 class ReadTest(PromiseTest):
@@ -54,7 +57,8 @@ class ReadTest(PromiseTest):
         for line, statement in (
                 ("send 3 0 2", ("send", 3, (0, 2))), ("send 3", ("send", 3, ())),
                 ("exchange 4 0 1", ("exchange", 4, 0, 1)), ("amend 5 2", ("amend", 5, (2,))),
-                ("amend 5", ("amend", 5, ())), ("goal 7 1 2 2 2", ("goal", 7, (1, 2, 2, 2))), ("goal 0", ("goal", 0, ())),
+                ("amend 5", ("amend", 5, ())), ("goal 7 1 2 2 2", ("goal", 7, (1, 2, 2, 2))),
+                ("goal 0", ("goal", 0, ())),
                 ("nogoal", ("nogoal",)), ("undo", ("undo",)), ("redo", ("redo",)), ("ask days", ("ask", "days")),
                 ("ask passes", ("ask", "passes")), ("ask due", ("ask", "due")), ("ask book", ("ask", "book")),
                 ("ask crews", ("ask", "crews")), ("ask verdict 7 1 2", ("ask", "verdict", 7, (1, 2))),
@@ -99,7 +103,8 @@ class ReadTest(PromiseTest):
         self.refused(BadLine, 2, "words", read_script, HEAD)
 
     def test_word(self):
-        for line in ("ask", "days", "Undo", "undo.", "ask Days", "ask ask", "ask undo", "ask depot", "7", "-", "ask 7 days",
+        for line in ("ask", "days", "Undo", "undo.", "ask Days", "ask ask", "ask undo", "ask depot", "7", "-",
+                     "ask 7 days",
                      "ask - 1 1", "set_goal 7 1", "asks days", "goal: 7", "sends 01", "ask nothing 01 -"):
             self.refused(BadLine, 2, "word", read_script, HEAD + line)
             self.refused(BadLine, 1, "word", read_script, line)
@@ -112,8 +117,9 @@ class ReadTest(PromiseTest):
             self.refused(BadLine, 3, "depot", read_script, HEAD + "undo\n" + line)
 
     def test_count(self):
-        for line in ("send", "exchange", "exchange 1", "exchange 1 0", "exchange 1 0 1 2", "exchange x 01", "amend", "goal",
-                     "nogoal 1", "undo 1", "redo x", "ask days 1", "ask passes 0", "ask due -", "ask book 1", "ask crews x",
+        for line in ("send", "exchange", "exchange 1", "exchange 1 0", "exchange 1 0 1 2", "exchange x 01", "amend",
+                     "goal", "nogoal 1", "undo 1", "redo x", "ask days 1", "ask passes 0", "ask due -", "ask book 1",
+                     "ask crews x",
                      "ask verdict", "ask number", "ask values", "ask values 7", "ask values x", "ask next",
                      "undo undo", "exchange 1 2 3 x"):
             self.refused(BadLine, 2, "count", read_script, HEAD + line)
@@ -121,11 +127,13 @@ class ReadTest(PromiseTest):
             self.refused(BadLine, 1, "count", read_script, line)
 
     def test_number(self):
-        for word in ("01", "00", "-1", "+1", "x", "1x", "x1", "1.0", "1,0", "1_0", "0x1", "-", "--", "'1'", "1" + "0" * 31, "1e3"):
-            for line in (f"send {word}", f"send 1 {word}", f"send 1 0 {word}", f"exchange {word} 0 1", f"exchange 1 {word} 1",
-                         f"exchange 1 0 {word}", f"amend {word} 1", f"amend 1 {word}", f"goal {word} 1", f"goal 1 {word}",
+        for word in NO_NUMBERS:
+            for line in (f"send {word}", f"send 1 {word}", f"send 1 0 {word}", f"exchange {word} 0 1",
+                         f"exchange 1 {word} 1", f"exchange 1 0 {word}", f"amend {word} 1", f"amend 1 {word}",
+                         f"goal {word} 1", f"goal 1 {word}",
                          f"ask verdict {word}", f"ask verdict 7 {word}", f"ask soonest {word}", f"ask number {word} 1",
-                         f"ask values {word} 1 1", f"ask values 1 {word} -", f"ask next {word}", f"ask next 1 2 {word}"):
+                         f"ask values {word} 1 1", f"ask values 1 {word} -", f"ask next {word}",
+                         f"ask next 1 2 {word}"):
                 self.refused(BadLine, 2, "number", read_script, HEAD + line)
             for line in (f"ask number 1 {word}", f"ask values 1 1 {word}", f"ask number 7 - {word} 1"):
                 if word != "-":

@@ -2,14 +2,14 @@
 
 import unittest
 
-from outagain.crews import crews_seen
 from outagain.books import Book
+from outagain.crews import crews_seen
 from outagain.depots import Depot
 from outagain.errors import BadLine
 from outagain.passorder import next_row
 from outagain.passvalues import pass_values
-from outagain.rownumbers import number_of
 from outagain.phrases import read_script
+from outagain.rownumbers import number_of
 from outagain.scripts import run_script
 from outagain.walking import walk
 from outagain.wishes import least_day
@@ -66,7 +66,9 @@ def tell(depot, plain, word, *facts):
 
 def drawn_line(dice, size, today):
     """A deed or a question, often a good one."""
-    number = lambda most: str(dice.randint(0, most))
+    def number(most):
+        return str(dice.randint(0, most))
+
     drivers = [number(size) for _ in range(dice.choice([1, 1, 1, 2]))]
     passes = [number(4) for _ in range(dice.choice([size] * 9 + [size + 1]))]
     some = [dice.choice(["-", number(4)]) for _ in range(dice.choice([size] * 9 + [size - 1]))]
@@ -75,8 +77,8 @@ def drawn_line(dice, size, today):
         ["send", number(2), *drivers], ["send", "1", *drivers], ["send", "1", *drivers], ["send", "1", *drivers],
         ["exchange", number(4), number(size), number(size)], ["amend", number(4), *drivers], ["goal", days, *passes],
         ["nogoal"], ["undo"], ["redo"], ["ask", "days"], ["ask", "passes"], ["ask", "due"], ["ask", "book"],
-        ["ask", "crews"], ["ask", "verdict", days, *passes], ["ask", "soonest", *passes], ["ask", "number", days, *some],
-        ["ask", "values", days, number(size), *some], ["ask", "next", days, *passes]]))
+        ["ask", "crews"], ["ask", "verdict", days, *passes], ["ask", "soonest", *passes],
+        ["ask", "number", days, *some], ["ask", "values", days, number(size), *some], ["ask", "next", days, *passes]]))
 
 
 class RunTest(PromiseTest):
@@ -199,8 +201,8 @@ class RunTest(PromiseTest):
             answers = run_script(text)
             self.same(answers, expected_answers(text))
             words |= {" ".join(answer.split(" ")[:1 + answer.startswith("refused")]) for answer in answers}
-        self.assertLessEqual({"days", "passes", "due", "book", "crews", "verdict", "soonest", "number", "values", "next",
-                              "refused away", "refused gone", "refused nothing", "refused apart"}, words)
+        self.assertLessEqual({"days", "passes", "due", "book", "crews", "verdict", "soonest", "number", "values",
+                              "next", "refused away", "refused gone", "refused nothing", "refused apart"}, words)
 
 
 if __name__ == "__main__":

@@ -272,8 +272,13 @@ def calls():
         yield name, call, parameters
 
 
+def with_bad(parameters, at):
+    """Arguments of which just this one is bad."""
+    return [bad if k == at else good for k, (good, bad, _) in enumerate(parameters)]
+
+
 def as_kind(kind, value):
-    """The value with all its lists and tuples of this kind; what notes, pieces and pairs hold included."""
+    """The value with all its lists and tuples of this kind."""
     return kind(as_kind(kind, part) for part in value) if isinstance(value, (list, tuple)) else value
 
 
@@ -380,7 +385,7 @@ class ArgumentsTest(PromiseTest):
                         for good, _, _ in parameters]
                 answer = call(*args)
                 before = copy.deepcopy(plain(answer))
-                spoil([arg for arg in args])
+                spoil(args)
                 self.assertEqual(plain(answer), before)
                 spoil(answer)
                 again = call(*[copy.deepcopy(good) if isinstance(good, list) else good for good, _, _ in parameters])
@@ -410,10 +415,10 @@ class ErrorsTest(PromiseTest):
     def test_each_class_is_raised_with_its_kinds(self):
         raised = set()
         for _, call, parameters in calls():
-            for at, (_, bad, error) in enumerate(parameters):
+            for at, (_, _, error) in enumerate(parameters):
                 if error is not None:
                     with self.assertRaises(OutagainError) as caught:
-                        call(*[good for good, _, _ in parameters[:at]], bad, *[good for good, _, _ in parameters[at + 1:]])
+                        call(*with_bad(parameters, at))
                     raised.add(type(caught.exception))
                     self.assertIs(type(caught.exception.at), int)
                     self.assertIs(type(caught.exception.code), str)
@@ -441,10 +446,9 @@ class ErrorsTest(PromiseTest):
         before = (desk.book().stretches, desk.goal, desk.after().nexts)
         for name, (owner, *parameters) in METHODS.items():
             if owner is None:
-                for at, (_, bad, error) in enumerate(parameters):
+                for at, (_, _, error) in enumerate(parameters):
                     if error is not None:
-                        args = [good for good, _, _ in parameters[:at]] + [bad] + [good for good, _, _ in parameters[at + 1:]]
-                        self.refused(*error, getattr(desk, name.split(".")[-1]), *args)
+                        self.refused(*error, getattr(desk, name.split(".")[-1]), *with_bad(parameters, at))
         self.same((desk.book().stretches, desk.goal, desk.after().nexts), before)
         desk.redo()
         self.same(desk.goal, (7, (1, 2, 2, 2)))

@@ -70,7 +70,8 @@ class AskedTest(PromiseTest):
             if not closings:
                 continue
             drawn = drawn_closings(dice, closings)
-            notes = drawn_notes(dice, depot, crews_seen(depot, book), drawn, dice.randint(0, 40), dice.choice([0, 0, 0.1]))
+            wrong = dice.choice([0, 0, 0.1])
+            notes = drawn_notes(dice, depot, crews_seen(depot, book), drawn, dice.randint(0, 40), wrong)
             passes = walk(depot, book).passes
             closing = dice.choice([*drawn, 1, closings, dice.randint(1, closings)])
             driver = dice.randrange(depot.size)
